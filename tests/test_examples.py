@@ -1,6 +1,5 @@
 """The examples of the document, as they are printed there."""
 
-import doctest
 import unittest
 
 SCHEDULES = """
@@ -48,23 +47,130 @@ TREES = """
 """
 
 
+NUMBERING = """
+>>> from mergebudget.numbering import count_schedules
+>>> [count_schedules(0), count_schedules(1), count_schedules(3), count_schedules(4)]
+[1, 1, 5, 14]
+
+>>> from mergebudget.numbering import index_of
+>>> index_of((0, 0, 2))
+2
+
+>>> from mergebudget.numbering import schedule_at
+>>> schedule_at(3, 2)
+(0, 0, 2)
+
+>>> from mergebudget.numbering import count_within
+>>> [count_within(3, 2, 2), count_within(5, 2, 2), count_within(6, 2, 2)]
+[3, 1, 0]
+
+>>> from mergebudget.numbering import index_within
+>>> index_within((0, 0, 2), 2, 2)
+2
+
+>>> from mergebudget.numbering import schedule_within
+>>> schedule_within(3, 2, 2, 2)
+(0, 0, 2)
+"""
+
+STATES = """
+>>> from mergebudget.states import is_state
+>>> [is_state((2, 1), 2, 2), is_state((2, 1, 1), 2, 2), is_state((3,), 2, 2), is_state((), 0, 0)]
+[True, False, False, True]
+
+>>> from mergebudget.states import state_of
+>>> state_of((0, 0, 2, 0))
+(2, 1)
+
+>>> from mergebudget.states import next_state
+>>> next_state((1, 1), 2, 2, 2)
+(2,)
+
+>>> from mergebudget.states import next_state
+>>> next_state((1, 1), 0, 2, 2)
+raises InvalidMerge(value=0)
+
+>>> from mergebudget.states import lifetime
+>>> [lifetime(2, 2), lifetime(1, 3), lifetime(0, 5)]
+[5, 3, 0]
+
+>>> from mergebudget.states import remaining
+>>> [remaining((), 2, 2), remaining((1,), 2, 2), remaining((1, 1), 2, 2), remaining((1, 2), 2, 2)]
+[5, 4, 3, 0]
+
+>>> from mergebudget.states import best_merge
+>>> [best_merge((1,), 2, 2), best_merge((1, 1), 2, 2), best_merge((1, 2), 2, 2)]
+[0, 2, None]
+"""
+
+POLICIES = """
+>>> from mergebudget.policies import least_writes
+>>> [least_writes(0, 2), least_writes(5, 2), least_writes(6, 2)]
+[0, 2, 3]
+
+>>> from mergebudget.policies import policy_merge
+>>> [policy_merge(2, 0), policy_merge(2, 1), policy_merge(2, 2), policy_merge(2, 3), policy_merge(2, 4), policy_merge(2, 5)]
+[0, 0, 2, 0, 1, 2]
+
+>>> from mergebudget.policies import policy_runs
+>>> [policy_runs(2, 5), policy_runs(2, 6), policy_runs(3, 0)]
+[(3, 2), (6,), ()]
+
+>>> from mergebudget.policies import policy_schedule
+>>> policy_schedule(2, 5)
+(0, 0, 2, 0, 1)
+"""
+
+POTENTIALS = """
+>>> from mergebudget.potentials import potentials
+>>> potentials((1, 1), 2, 2)
+(((1, 1), 3), ((1, 2), 0), ((2,), 2), ((2, 1), 1), ((2, 2), 0))
+
+>>> from mergebudget.potentials import potentials, shows_remaining
+>>> rows = potentials((1, 1), 2, 2)
+>>> [shows_remaining((1, 1), 2, 2, 3, rows), shows_remaining((1, 1), 2, 2, 2, rows), shows_remaining((2,), 2, 2, 2, rows)]
+[True, False, True]
+"""
+
+
+def printed(statements):
+    """What the document prints behind the last of these statements: its value, or the error that it raises."""
+    names = {}
+    for statement in statements[:-1]:
+        exec(statement, names)
+    try:
+        return repr(eval(statements[-1], names))
+    except ValueError as error:
+        return f"raises {type(error).__name__}(value={error.value!r})"
+
+
 class ExamplesTest(unittest.TestCase):
-    def check(self, name, text):
+    def check(self, text, many):
         """Each printed block is run on its own, so that none leans on another's imports."""
         blocks = text.strip().split("\n\n")
-        self.assertEqual(len(blocks), 5)
+        self.assertEqual(len(blocks), many)
         for block in blocks:
-            told = []
-            example = doctest.DocTestParser().get_doctest(block + "\n", {}, name, None, None)
-            result = doctest.DocTestRunner(verbose=False).run(example, out=told.append)
-            self.assertEqual(result.attempted, 2)
-            self.assertEqual(result.failed, 0, "".join(told))
+            *lines, wanted = block.split("\n")
+            self.assertTrue(len(lines) > 1 and all(line.startswith(">>> ") for line in lines), block)
+            self.assertEqual(printed([line[4:] for line in lines]), wanted, block)
 
     def test_schedules(self):
-        self.check("schedules", SCHEDULES)
+        self.check(SCHEDULES, 5)
 
     def test_trees(self):
-        self.check("trees", TREES)
+        self.check(TREES, 5)
+
+    def test_numbering(self):
+        self.check(NUMBERING, 6)
+
+    def test_states(self):
+        self.check(STATES, 7)
+
+    def test_policies(self):
+        self.check(POLICIES, 4)
+
+    def test_potentials(self):
+        self.check(POTENTIALS, 2)
 
 
 if __name__ == "__main__":

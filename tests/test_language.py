@@ -116,6 +116,24 @@ class LanguageTest(unittest.TestCase):
                 self.assertTrue(re.fullmatch(r"[A-Za-z][A-Za-z0-9_]*|__[a-z]+__", name), name)
                 self.assertNotIn(name, BARRED_NAMES)
 
+    def test_imports_and_classes_keep_their_names(self):
+        for path in files():
+            tree = tree_in(path)
+            imports = [alias.name for node in tree.body if isinstance(node, ast.ImportFrom) for alias in node.names]
+            classes = [node.name for node in tree.body if isinstance(node, ast.ClassDef)]
+            names = [node for node in ast.walk(tree) if isinstance(node, ast.Name)]
+            local = [node.arg for node in ast.walk(tree) if isinstance(node, ast.arg)]
+            local += [node.id for node in names if isinstance(node.ctx, ast.Store)]
+            self.assertEqual(sorted(set(imports + classes) & set(local)), [], path.name)
+
+    def test_each_import_is_used(self):
+        for path in files():
+            tree = tree_in(path)
+            read = {node.id for node in ast.walk(tree) if isinstance(node, ast.Name)}
+            for node in tree.body:
+                if isinstance(node, ast.ImportFrom):
+                    self.assertEqual([alias.name for alias in node.names if alias.name not in read], [], path.name)
+
     def test_builtins(self):
         for path in files():
             for node in ast.walk(tree_in(path)):
