@@ -1,4 +1,4 @@
-"""Arguments of the functions of points 7, 9, 10 and 11: the order of errors, names, limits, time."""
+"""Arguments of the functions of points 7 to 14: the order of errors, names, limits, time."""
 
 import copy
 import inspect
@@ -7,16 +7,22 @@ import random
 import time
 import unittest
 
+from mergebudget.bounded import least_work_within, shows_bound_within, table_within
 from mergebudget.errors import (
-    InvalidBudget, InvalidCount, InvalidIndex, InvalidMerge, InvalidSchedule, InvalidState, OutsideBudget,
+    InvalidBudget, InvalidCount, InvalidIndex, InvalidMerge, InvalidReads, InvalidSchedule, InvalidSizes, InvalidState,
+    OutsideBudget,
 )  # fmt: skip
 from mergebudget.numbering import (
     count_schedules, count_within, index_of, index_within, schedule_at, schedule_within,
 )  # fmt: skip
+from mergebudget.optimum import least_roots, least_work
 from mergebudget.policies import least_writes, policy_merge, policy_runs, policy_schedule
 from mergebudget.potentials import potentials, shows_remaining
 from mergebudget.states import best_merge, is_state, lifetime, next_state, remaining, state_of
+from mergebudget.tables import shows_bound, table
+from mergebudget.work import read_work, work, write_work
 from tests.budgets import plain_is_state
+from tests.loads import MOST_LOAD, changed_loads, plain_are_loads
 from tests.samples import (
     assert_same, fixed_values, merges_everything, merges_nothing, plain_is_schedule, random_values,
 )  # fmt: skip
@@ -44,6 +50,13 @@ def wrong_states(k, c):
     return [value for value in values if not plain_is_state(value, k, c)]
 
 
+def wrong_loads(loads, fewest, most):
+    """Values of any kind and changed loads that are no loads of `fewest` to `most` flushes."""
+    values = changed_loads(loads) + [(0,) * (most + 1), (MOST_LOAD + 1,) * len(loads), (0,) * 61, (0,) * 200]
+    values.extend([(0,) * (fewest + 1), (0,) * max(0, fewest - 1), (0,) * most, (-1,) * fewest])
+    return [value for value in values + ANY_KIND if not plain_are_loads(value, fewest, most)]
+
+
 BUDGETS = [("k", InvalidBudget, wrong_counts(0, 60)), ("c", InvalidBudget, wrong_counts(0, 60))]
 SMALL_BUDGETS = [("k", InvalidBudget, wrong_counts(0, 4)), ("c", InvalidBudget, wrong_counts(0, 4))]
 RUNS = ("k", InvalidBudget, wrong_counts(1, 60))
@@ -51,6 +64,16 @@ FLUSHES = ("n", InvalidCount, wrong_counts(0, 60))
 SCHEDULE = ("schedule", InvalidSchedule, wrong_schedules())
 STATE = ("state", InvalidState, wrong_states(2, 2))
 FAR_COUNT = ("n", InvalidCount, wrong_counts(0, FAR))
+MOST_60 = (MOST_LOAD,) * 60
+LOADS = {"sizes": (5, 1, 1), "reads": (1, 1, 2)}
+READS = ("reads", InvalidReads, wrong_loads((1, 1, 2), 3, 3))
+OWN_SIZES = ("sizes", InvalidSizes, wrong_loads((5, 1, 1), 3, 3))
+SIZES = ("sizes", InvalidSizes, wrong_loads((5, 1, 1), 0, 60))
+FEW_SIZES = ("sizes", InvalidSizes, wrong_loads((5, 1, 1), 0, 14))
+TABLE_BUDGETS = [("k", InvalidBudget, wrong_counts(0, 8)), ("c", InvalidBudget, wrong_counts(0, 8))]
+WITHIN = LOADS | {"k": 2, "c": 3}
+BOUNDS = table((5, 1, 1), (1, 1, 2))
+BOUNDS_WITHIN = table_within((5, 1, 1), (1, 1, 2), 2, 3)
 
 # For each function: right arguments in their order, and the errors in the order of the document.
 # The budgets (2, 2) allow the schedule and the state; wrong merges are wrong for that state.
@@ -81,6 +104,20 @@ CASES = [
     (policy_schedule, {"k": 3, "n": 12}, [RUNS, FLUSHES]),
     (potentials, {"state": (1, 1), "k": 2, "c": 2}, SMALL_BUDGETS + [STATE]),
     (shows_remaining, {"state": (1, 1), "k": 2, "c": 2, "number": 3, "value": TABLE}, SMALL_BUDGETS + [STATE]),
+    (write_work, {"schedule": (0, 0, 2), "sizes": (5, 1, 1)}, [SCHEDULE, OWN_SIZES]),
+    (read_work, {"schedule": (0, 0, 2), "reads": (1, 1, 2)}, [SCHEDULE, READS]),
+    (work, {"schedule": (0, 0, 2)} | LOADS, [SCHEDULE, OWN_SIZES, READS]),
+    (least_work, LOADS, [SIZES, READS]),
+    (least_roots, LOADS, [SIZES, READS]),
+    (table, LOADS, [SIZES, READS]),
+    (shows_bound, LOADS | {"bound": BOUNDS[0][-1], "value": BOUNDS}, [SIZES, READS]),
+    (least_work_within, WITHIN, [FEW_SIZES, READS] + TABLE_BUDGETS),
+    (table_within, WITHIN, [FEW_SIZES, READS] + TABLE_BUDGETS),
+    (
+        shows_bound_within,
+        WITHIN | {"bound": BOUNDS_WITHIN[2][3][0][-1], "value": BOUNDS_WITHIN},
+        [FEW_SIZES, READS] + TABLE_BUDGETS,
+    ),
 ]
 
 
@@ -131,6 +168,33 @@ class ErrorsTest(unittest.TestCase):
             for value in ANY_KIND:
                 self.check(is_state, {"value": value, "k": 2, "c": 2} | {name: rng.choice(wrongs)}, error, name)
 
+    def test_bounds_and_tables_of_any_kind_beside_wrong_arguments(self):
+        rng = random.Random(23)
+        cases = [(shows_bound, LOADS, [SIZES, READS])]
+        cases.append((shows_bound_within, WITHIN, [FEW_SIZES, READS] + TABLE_BUDGETS))
+        for function, right, checks in cases:
+            for value in ANY_KIND:
+                arguments = right | {"bound": rng.choice(ANY_KIND), "value": value}
+                self.assertIs(function(*arguments.values()), False)
+                for name, error, wrongs in checks:
+                    self.check(function, arguments | {name: rng.choice(wrongs)}, error, name)
+
+    def test_sizes_and_reads_of_unequal_length(self):
+        for function in (least_work, least_roots, table, least_work_within, table_within):
+            more = {"k": 8, "c": 8} if function in (least_work_within, table_within) else {}
+            most = 14 if more else 60
+            for n, other in ((0, 1), (1, 0), (3, 2), (3, 4), (most, most - 1), (most - 1, most), (most, most + 1)):
+                self.check(function, {"sizes": (1,) * n, "reads": (1,) * other} | more, InvalidReads, "reads")
+            for other in (most, most + 1, 0):
+                self.check(function, {"sizes": (1,) * (most + 1), "reads": (1,) * other} | more, InvalidSizes, "sizes")
+        for schedule in ((), (0,), (0, 0, 2), merges_nothing(60)):
+            for other in (len(schedule) + 1, max(0, len(schedule) - 1) if schedule else 2, 61):
+                wrong, right = (1,) * other, (1,) * len(schedule)
+                self.check(write_work, {"schedule": schedule, "sizes": wrong}, InvalidSizes, "sizes")
+                self.check(read_work, {"schedule": schedule, "reads": wrong}, InvalidReads, "reads")
+                self.check(work, {"schedule": schedule, "sizes": wrong, "reads": wrong}, InvalidSizes, "sizes")
+                self.check(work, {"schedule": schedule, "sizes": right, "reads": wrong}, InvalidReads, "reads")
+
     def test_outside_the_budgets_comes_last(self):
         for schedule in ((0, 0, 0), (0, 1, 1), (0, 0, 0, 0, 0)):
             right = {"schedule": schedule, "k": 2, "c": 2}
@@ -173,6 +237,12 @@ class ErrorsTest(unittest.TestCase):
             lambda: policy_merge(60, FAR), lambda: policy_merge(1, 0), lambda: policy_runs(60, FAR),
             lambda: policy_schedule(60, 60), lambda: policy_schedule(1, 0), lambda: potentials((), 4, 4),
             lambda: potentials((), 0, 0), lambda: shows_remaining((), 4, 4, None, None),
+            lambda: work(merges_nothing(60), MOST_60, MOST_60), lambda: work((), (), ()),
+            lambda: least_work(MOST_60, MOST_60), lambda: least_roots(MOST_60, MOST_60), lambda: least_work((), ()),
+            lambda: table(MOST_60, MOST_60), lambda: shows_bound(MOST_60, MOST_60, None, None),
+            lambda: least_work_within(MOST_60[:14], MOST_60[:14], 8, 8), lambda: least_work_within((), (), 0, 0),
+            lambda: table_within(MOST_60[:14], MOST_60[:14], 8, 8), lambda: table_within((), (), 0, 0),
+            lambda: shows_bound_within(MOST_60[:14], MOST_60[:14], 8, 8, None, None),
         ]  # fmt: skip
         for call in calls:
             self.assertIsNone(raised(call))
@@ -237,6 +307,28 @@ class TimeTest(unittest.TestCase):
             self.check(potentials, state, 4, 4)
             self.check(shows_remaining, state, 4, 4, remaining(state, 4, 4), potentials(state, 4, 4))
         self.check(shows_remaining, (), 4, 4, 69, potentials((), 4, 4) * 50)
+
+    def test_work(self):
+        for schedule in (merges_nothing(60), merges_everything(60), schedule_at(60, CATALAN_60 // 2)):
+            self.check(work, schedule, MOST_60, MOST_60)
+
+    def test_optimum_and_tables(self):
+        for sizes, reads in ((MOST_60, MOST_60), ((0,) * 60, (0,) * 60), (tuple(range(60)), (1,) * 60)):
+            for function in (least_work, least_roots, table):
+                self.check(function, sizes, reads)
+            rows = table(sizes, reads)
+            self.check(shows_bound, sizes, reads, rows[0][-1], rows)
+            self.check(shows_bound, sizes, reads, rows[0][-1], rows * 50)
+            self.check(shows_bound, sizes, reads, rows[0][-1], (rows,) * 61)
+
+    def test_bounded(self):
+        for sizes, reads in ((MOST_60[:14], MOST_60[:14]), ((0,) * 14, (0,) * 14), (tuple(range(14)), (1,) * 14)):
+            for function in (least_work_within, table_within):
+                for k, c in ((8, 8), (4, 4), (8, 2), (2, 8)):
+                    self.check(function, sizes, reads, k, c)
+            grid = table_within(sizes, reads, 8, 8)
+            self.check(shows_bound_within, sizes, reads, 8, 8, grid[8][8][0][-1], grid)
+            self.check(shows_bound_within, sizes, reads, 8, 8, 0, grid * 50)
 
 
 if __name__ == "__main__":

@@ -132,6 +132,56 @@ POTENTIALS = """
 [True, False, True]
 """
 
+WORK = """
+>>> from mergebudget.work import write_work
+>>> write_work((0, 0, 1), (5, 1, 1))
+8
+
+>>> from mergebudget.work import read_work
+>>> read_work((0, 0, 1), (1, 1, 1))
+5
+
+>>> from mergebudget.work import work
+>>> work((0, 0, 1), (5, 1, 1), (1, 1, 1))
+13
+"""
+
+OPTIMUM = """
+>>> from mergebudget.optimum import least_work
+>>> least_work((5, 1, 1), (1, 1, 1))
+(13, (0, 0, 0))
+
+>>> from mergebudget.optimum import least_roots
+>>> least_roots((5, 1, 1), (1, 1, 1))
+((0, 0, 0), (1, 1), (2,))
+"""
+
+TABLES = """
+>>> from mergebudget.tables import table
+>>> table((5, 1, 1), (1, 1, 1))
+((0, 6, 9, 13), (0, 2, 5), (0, 2), (0,))
+
+>>> from mergebudget.tables import shows_bound, table
+>>> rows = table((5, 1, 1), (1, 1, 1))
+>>> [shows_bound((5, 1, 1), (1, 1, 1), 13, rows), shows_bound((5, 1, 1), (1, 1, 1), 14, ((0, 6, 9, 14), (0, 2, 5), (0, 2), (0,)))]
+[True, False]
+"""
+
+BOUNDED = """
+>>> from mergebudget.bounded import least_work_within
+>>> [least_work_within((5, 1, 1), (1, 1, 1), 2, 2), least_work_within((5, 1, 1), (1, 1, 1), 1, 2)]
+[(13, (0, 0, 1)), None]
+
+>>> from mergebudget.bounded import table_within
+>>> table_within((5, 1), (1, 1), 1, 1)
+((((0, None, None), (0, None), (0,)), ((0, None, None), (0, None), (0,))), (((0, None, None), (0, None), (0,)), ((0, 6, None), (0, 2), (0,))))
+
+>>> from mergebudget.bounded import shows_bound_within, table_within
+>>> rows = table_within((5, 1), (1, 1), 1, 2)
+>>> [shows_bound_within((5, 1), (1, 1), 1, 2, 13, rows), shows_bound_within((5, 1), (1, 1), 1, 2, 14, rows)]
+[True, False]
+"""
+
 
 def printed(statements):
     """What the document prints behind the last of these statements: its value, or the error that it raises."""
@@ -171,6 +221,18 @@ class ExamplesTest(unittest.TestCase):
 
     def test_potentials(self):
         self.check(POTENTIALS, 2)
+
+    def test_work(self):
+        self.check(WORK, 3)
+
+    def test_optimum(self):
+        self.check(OPTIMUM, 2)
+
+    def test_tables(self):
+        self.check(TABLES, 2)
+
+    def test_bounded(self):
+        self.check(BOUNDED, 3)
 
 
 if __name__ == "__main__":
