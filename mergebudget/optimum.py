@@ -10,6 +10,11 @@ from mergebudget.schedules import MOST_FLUSHES, runs_at_end
 def least_work(sizes, reads):
     """The least work of all schedules, and the schedule in whose tree each node is a least root."""
     check_loads(sizes, reads, MOST_FLUSHES)
+    return least_of(sizes, reads)
+
+
+def least_of(sizes, reads):
+    """The least work and its schedule, whatever the loads are."""
     rows = least_rows(sizes, reads)
     return (rows[0][-1], schedule_in(rows, load_sums(sizes, reads), 0, len(sizes)))
 

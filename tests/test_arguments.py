@@ -1,4 +1,4 @@
-"""Arguments of the functions of points 7 to 14: the order of errors, names, limits, time."""
+"""Arguments of the functions of points 7 to 15: the order of errors, names, limits; the time of all calls."""
 
 import copy
 import inspect
@@ -8,6 +8,7 @@ import time
 import unittest
 
 from mergebudget.bounded import least_work_within, shows_bound_within, table_within
+from mergebudget.desk import Desk
 from mergebudget.errors import (
     InvalidBudget, InvalidCount, InvalidIndex, InvalidMerge, InvalidReads, InvalidSchedule, InvalidSizes, InvalidState,
     OutsideBudget,
@@ -18,8 +19,11 @@ from mergebudget.numbering import (
 from mergebudget.optimum import least_roots, least_work
 from mergebudget.policies import least_writes, policy_merge, policy_runs, policy_schedule
 from mergebudget.potentials import potentials, shows_remaining
+from mergebudget.prices import corner_certificate, corners, shows_corners
 from mergebudget.states import best_merge, is_state, lifetime, next_state, remaining, state_of
+from mergebudget.store import Store
 from mergebudget.tables import shows_bound, table
+from mergebudget.texts import read_schedule, read_store, show_schedule, show_store
 from mergebudget.work import read_work, work, write_work
 from tests.budgets import plain_is_state
 from tests.loads import MOST_LOAD, changed_loads, plain_are_loads
@@ -69,11 +73,13 @@ LOADS = {"sizes": (5, 1, 1), "reads": (1, 1, 2)}
 READS = ("reads", InvalidReads, wrong_loads((1, 1, 2), 3, 3))
 OWN_SIZES = ("sizes", InvalidSizes, wrong_loads((5, 1, 1), 3, 3))
 SIZES = ("sizes", InvalidSizes, wrong_loads((5, 1, 1), 0, 60))
+PRICED_SIZES = ("sizes", InvalidSizes, wrong_loads((5, 1, 1), 0, 24))
 FEW_SIZES = ("sizes", InvalidSizes, wrong_loads((5, 1, 1), 0, 14))
 TABLE_BUDGETS = [("k", InvalidBudget, wrong_counts(0, 8)), ("c", InvalidBudget, wrong_counts(0, 8))]
 WITHIN = LOADS | {"k": 2, "c": 3}
 BOUNDS = table((5, 1, 1), (1, 1, 2))
 BOUNDS_WITHIN = table_within((5, 1, 1), (1, 1, 2), 2, 3)
+CORNERS = {"points": corners((5, 1, 1), (1, 1, 2)), "value": corner_certificate((5, 1, 1), (1, 1, 2))}
 
 # For each function: right arguments in their order, and the errors in the order of the document.
 # The budgets (2, 2) allow the schedule and the state; wrong merges are wrong for that state.
@@ -118,6 +124,9 @@ CASES = [
         WITHIN | {"bound": BOUNDS_WITHIN[2][3][0][-1], "value": BOUNDS_WITHIN},
         [FEW_SIZES, READS] + TABLE_BUDGETS,
     ),
+    (corners, LOADS, [PRICED_SIZES, READS]),
+    (corner_certificate, LOADS, [PRICED_SIZES, READS]),
+    (shows_corners, LOADS | CORNERS, [PRICED_SIZES, READS]),
 ]
 
 
@@ -178,11 +187,16 @@ class ErrorsTest(unittest.TestCase):
                 self.assertIs(function(*arguments.values()), False)
                 for name, error, wrongs in checks:
                     self.check(function, arguments | {name: rng.choice(wrongs)}, error, name)
+        for value in ANY_KIND:
+            arguments = LOADS | {"points": rng.choice(ANY_KIND), "value": value}
+            self.assertIs(shows_corners(*arguments.values()), False)
+            for name, error, wrongs in (PRICED_SIZES, READS):
+                self.check(shows_corners, arguments | {name: rng.choice(wrongs)}, error, name)
 
     def test_sizes_and_reads_of_unequal_length(self):
-        for function in (least_work, least_roots, table, least_work_within, table_within):
-            more = {"k": 8, "c": 8} if function in (least_work_within, table_within) else {}
-            most = 14 if more else 60
+        limits = {least_work: 60, least_roots: 60, table: 60, least_work_within: 14, table_within: 14, corners: 24}
+        for function, most in (limits | {corner_certificate: 24}).items():
+            more = {"k": 8, "c": 8} if most == 14 else {}
             for n, other in ((0, 1), (1, 0), (3, 2), (3, 4), (most, most - 1), (most - 1, most), (most, most + 1)):
                 self.check(function, {"sizes": (1,) * n, "reads": (1,) * other} | more, InvalidReads, "reads")
             for other in (most, most + 1, 0):
@@ -243,6 +257,8 @@ class ErrorsTest(unittest.TestCase):
             lambda: least_work_within(MOST_60[:14], MOST_60[:14], 8, 8), lambda: least_work_within((), (), 0, 0),
             lambda: table_within(MOST_60[:14], MOST_60[:14], 8, 8), lambda: table_within((), (), 0, 0),
             lambda: shows_bound_within(MOST_60[:14], MOST_60[:14], 8, 8, None, None),
+            lambda: corners(MOST_60[:24], MOST_60[:24]), lambda: corner_certificate(MOST_60[:24], MOST_60[:24]),
+            lambda: shows_corners(MOST_60[:24], MOST_60[:24], None, None), lambda: corners((), ()),
         ]  # fmt: skip
         for call in calls:
             self.assertIsNone(raised(call))
@@ -329,6 +345,50 @@ class TimeTest(unittest.TestCase):
             grid = table_within(sizes, reads, 8, 8)
             self.check(shows_bound_within, sizes, reads, 8, 8, grid[8][8][0][-1], grid)
             self.check(shows_bound_within, sizes, reads, 8, 8, 0, grid * 50)
+
+    def test_prices(self):
+        rng = random.Random(24)
+        pairs = [(MOST_60[:24], MOST_60[:24]), ((0,) * 24, (0,) * 24), (tuple(range(24)), (1,) * 24)]
+        for most in (3, 1000, MOST_LOAD):
+            pairs.append(tuple(tuple(rng.randint(0, most) for flush in range(24)) for kind in range(2)))
+        # Powers of two make the points of many schedules corners.
+        pairs.append((tuple(2**flush for flush in range(24)), tuple(2 ** (23 - flush) for flush in range(24))))
+        for sizes, reads in pairs:
+            self.check(corners, sizes, reads)
+            self.check(corner_certificate, sizes, reads)
+            points, paper = corners(sizes, reads), corner_certificate(sizes, reads)
+            self.check(shows_corners, sizes, reads, points, paper)
+            self.check(shows_corners, sizes, reads, points * 100, paper)
+
+    def test_store_and_texts(self):
+        for policy in (("manual",), ("runs", 60), ("runs", 2), ("budget", 60, 60)):
+            store = Store(policy)
+            for flush in range(60):
+                for letter in "abcdefghijklmnopqrstuvwxyz":
+                    store.put(letter * (1 + flush % 8), 10**59 + flush)
+                self.check(store.flush, *([0] if policy == ("manual",) else []))
+            for call in (store.stack, store.state, store.written, store.present, store.pending, store.copy):
+                self.check(call)
+            self.check(store.read, "unknown")
+            self.check(lambda: store.read("unknown", moment=60))
+            self.check(lambda: store.present(moment=60))
+            self.check(show_store, store)
+            self.check(read_store, show_store(store))
+            desk = Desk(show_store(store))
+            for line in ("least" + " 1000000000" * 60, "text", "stack", "remaining", "written", "read unknown"):
+                self.check(desk.say, line)
+            self.check(lambda: [store.undo() for step in range(60 * 27)])
+        self.check(show_schedule, merges_everything(60))
+        self.check(read_schedule, show_schedule(merges_everything(60)))
+
+    def test_long_lines(self):
+        texts = ["0 " * 200000 + "0", "9" * 1000000, "store manual" + "\nflush 0" * 100000, " " * 500000, "\n" * 500000]
+        for text in texts:
+            self.check(lambda: raised(lambda: read_schedule(text)))
+            self.check(lambda: raised(lambda: read_store(text)))
+            self.check(lambda: raised(lambda: read_store("store manual\npending " + text)))
+            for word in ("put a ", "least ", "flush ", "read ", ""):
+                self.check(lambda: raised(lambda: Desk().say(word + text)))
 
 
 if __name__ == "__main__":

@@ -182,6 +182,92 @@ BOUNDED = """
 [True, False]
 """
 
+PRICES = """
+>>> from mergebudget.prices import corners
+>>> corners((5, 1, 1), (1, 1, 1))
+((7, 6), (8, 5), (12, 4), (18, 3))
+
+>>> from mergebudget.prices import corner_certificate, corners, shows_corners
+>>> points = corners((5, 1, 1), (1, 1, 1))
+>>> paper = corner_certificate((5, 1, 1), (1, 1, 1))
+>>> [shows_corners((5, 1, 1), (1, 1, 1), points, paper), shows_corners((5, 1, 1), (1, 1, 1), points[1:], paper)]
+[True, False]
+"""
+
+STORE = """
+>>> from mergebudget.store import Store
+>>> store = Store(("budget", 2, 2))
+>>> store.put("a", 1)
+>>> first = store.flush()
+>>> store.delete("a")
+>>> second = store.flush()
+>>> store.put("b", 7)
+>>> third = store.flush()
+>>> [third, store.stack(), store.state(), store.schedule(), store.sizes(), store.written()]
+[2, ((0, 3),), (2,), (0, 0, 2), (1, 1, 1), 5]
+
+>>> from mergebudget.store import Store
+>>> store = Store(("manual",))
+>>> store.put("a", 1)
+>>> first = store.flush(merge=0)
+>>> store.put("a", 2)
+>>> second = store.flush(merge=0)
+>>> store.delete("a")
+>>> [store.read("a"), store.read("a", moment=2), store.read("a", moment=1), store.read("a", moment=0), store.visited(), store.present(), store.present(moment=1)]
+[None, 2, 1, None, 2, (), ('a',)]
+
+>>> from mergebudget.store import Store
+>>> Store(("manual",)).flush()
+raises InvalidMerge(value=None)
+"""
+
+TEXTS = r"""
+>>> from mergebudget.texts import show_schedule
+>>> [show_schedule((0, 0, 2)), show_schedule(())]
+['0 0 2', '-']
+
+>>> from mergebudget.texts import read_schedule
+>>> read_schedule("0 0 2")
+(0, 0, 2)
+
+>>> from mergebudget.texts import read_schedule
+>>> read_schedule("0 2")
+raises InvalidText(value=0)
+
+>>> from mergebudget.store import Store
+>>> from mergebudget.texts import show_store
+>>> store = Store(("runs", 2))
+>>> store.put("b", -3)
+>>> store.delete("a")
+>>> first = store.flush()
+>>> store.put("c", 0)
+>>> show_store(store)
+'store runs 2\nflush 0 a=- b=-3\npending c=0'
+
+>>> from mergebudget.texts import read_store
+>>> store = read_store("store manual\nflush 0 a=1\nflush 1 a=-\npending")
+>>> [store.read("a", moment=1), store.read("a"), store.stack()]
+[1, None, ((0, 2),)]
+
+>>> from mergebudget.texts import read_store
+>>> read_store("store runs 2\nflush 0\nflush 1\npending")
+raises InvalidText(value=2)
+"""
+
+DESK = r"""
+>>> from mergebudget.desk import Desk
+>>> desk = Desk("store budget 2 2\npending")
+>>> done = desk.say("put a 1")
+>>> first = desk.say("flush")
+>>> second = desk.say("flush")
+>>> [first, second, desk.say("stack"), desk.say("remaining"), desk.say("read a 1"), desk.say("least 1 1")]
+['0', '0', '0..1 1..2', '3', '1', '4 0 0']
+
+>>> from mergebudget.desk import Desk
+>>> Desk().say("flush 1")
+raises InvalidMerge(value=1)
+"""
+
 
 def printed(statements):
     """What the document prints behind the last of these statements: its value, or the error that it raises."""
@@ -233,6 +319,18 @@ class ExamplesTest(unittest.TestCase):
 
     def test_bounded(self):
         self.check(BOUNDED, 3)
+
+    def test_prices(self):
+        self.check(PRICES, 2)
+
+    def test_store(self):
+        self.check(STORE, 3)
+
+    def test_texts(self):
+        self.check(TEXTS, 6)
+
+    def test_desk(self):
+        self.check(DESK, 2)
 
 
 if __name__ == "__main__":

@@ -21,6 +21,11 @@ BARRED_NAMES = set("register mro elements open input version_info with_traceback
 BARRED_NODES = (
     ast.Global, ast.AsyncFunctionDef, ast.AsyncFor, ast.AsyncWith, ast.Await, ast.Import, ast.Div, ast.MatMult,
 )  # fmt: skip
+BUILTIN_METHODS = set(
+    "append clear copy count endswith extend find get index insert isalnum isalpha isdigit islower isspace isupper "
+    "items join keys ljust lower lstrip partition pop remove replace reverse rfind rjust rpartition rsplit rstrip "
+    "setdefault split splitlines startswith strip update upper values zfill bit_length".split()
+)
 
 
 def files():
@@ -40,6 +45,21 @@ def defined_in(path):
         elif isinstance(node, ast.Assign):
             found.extend(target.id for target in node.targets)
     return found
+
+
+def classes():
+    """All classes of the package."""
+    return [node for path in files() for node in ast.walk(tree_in(path)) if isinstance(node, ast.ClassDef)]
+
+
+def methods_of(cls):
+    return [node for node in cls.body if isinstance(node, ast.FunctionDef)]
+
+
+def assigned_attributes(tree):
+    """The names of all attributes that are assigned in a tree."""
+    nodes = [node for node in ast.walk(tree) if isinstance(node, ast.Attribute)]
+    return {node.attr for node in nodes if isinstance(node.ctx, ast.Store)}
 
 
 def bound_names(tree):
@@ -153,6 +173,58 @@ class LanguageTest(unittest.TestCase):
                 if isinstance(node, ast.Compare) and any(isinstance(sign, (ast.Is, ast.IsNot)) for sign in node.ops):
                     for other in node.comparators:
                         self.assertIn(ast.unparse(other), ("None", "True", "False"), path.name)
+
+    def test_no_name_is_a_method_and_an_attribute(self):
+        methods = {method.name for cls in classes() for method in methods_of(cls)}
+        attributes = set().union(*[assigned_attributes(tree_in(path)) for path in files()])
+        self.assertEqual(methods & attributes, set())
+        for path in files():
+            for node in ast.walk(tree_in(path)):
+                if isinstance(node, ast.Attribute) and isinstance(node.ctx, ast.Load):
+                    self.assertIn(node.attr, methods | attributes | BUILTIN_METHODS, path.name)
+
+    def test_methods_stand_once_in_their_class(self):
+        for cls in classes():
+            names = [method.name for method in methods_of(cls)]
+            self.assertEqual(len(names), len(set(names)), cls.name)
+            for name in names:
+                if name.startswith("_"):
+                    self.assertIn(name, ("__init__", "__eq__", "__len__"))
+
+    def test_comparison_and_length_change_nothing(self):
+        barred = (ast.Assign, ast.AugAssign, ast.AnnAssign, ast.NamedExpr, ast.Delete, ast.For, ast.While)
+        for cls in classes():
+            for method in methods_of(cls):
+                if method.name in ("__eq__", "__len__"):
+                    for node in ast.walk(method):
+                        self.assertNotIsInstance(node, barred, cls.name)
+                    self.assertIsInstance(method.body[-1], ast.Return)
+
+    def test_lists_instead_of_generators(self):
+        for path in files():
+            for node in ast.walk(tree_in(path)):
+                self.assertNotIsInstance(node, (ast.GeneratorExp, ast.Yield, ast.YieldFrom, ast.SetComp), path.name)
+
+    def test_keywords_of_builtins(self):
+        allowed = {"min": {"default", "key"}, "max": {"default", "key"}, "sorted": {"key", "reverse"}, "sum": {"start"}}
+        for path in files():
+            for node in ast.walk(tree_in(path)):
+                if isinstance(node, ast.Call) and isinstance(node.func, ast.Name) and node.func.id in dir(builtins):
+                    names = {keyword.arg for keyword in node.keywords}
+                    self.assertLessEqual(names, allowed.get(node.func.id, set()), path.name)
+
+    def test_tables_of_the_module_level_are_only_read(self):
+        for path in files():
+            tree = tree_in(path)
+            tables = set()
+            for node in tree.body:
+                if isinstance(node, ast.Assign) and isinstance(node.value, (ast.Dict, ast.List)):
+                    tables.add(node.targets[0].id)
+                    for part in ast.walk(node.value):
+                        self.assertTrue(part is node.value or not isinstance(part, (ast.Dict, ast.List)), path.name)
+            for node in ast.walk(tree):
+                if isinstance(node, ast.Subscript) and not isinstance(node.ctx, ast.Load):
+                    self.assertNotIn(ast.unparse(node.value), tables)
 
 
 if __name__ == "__main__":
