@@ -1,5 +1,6 @@
 """What the document promises over the whole program: stores, schedules, work, states and texts together."""
 
+import importlib
 import random
 import unittest
 
@@ -21,6 +22,25 @@ from tests.loads import load_pairs, random_loads, small_pairs
 from tests.samples import assert_same, long_schedules, random_schedule
 from tests.stores import outcome
 
+INTERFACE = """
+errors: MergeBudgetError, InvalidSchedule, InvalidTree, InvalidCount, InvalidIndex, InvalidBudget, OutsideBudget
+errors: InvalidSizes, InvalidReads, InvalidState, InvalidMerge, InvalidPolicy, InvalidKey, InvalidValue, InvalidMoment
+errors: InvalidText, InvalidLine, Exhausted, NothingToUndo
+schedules: is_schedule, stacks, writes, run_counts, all_schedules
+trees: is_tree, tree_of, schedule_of, edges, mirror
+numbering: count_schedules, index_of, schedule_at, count_within, index_within, schedule_within
+work: write_work, read_work, work
+states: is_state, state_of, next_state, lifetime, remaining, best_merge
+policies: least_writes, policy_merge, policy_runs, policy_schedule
+potentials: potentials, shows_remaining
+optimum: least_work, least_roots
+tables: table, shows_bound
+bounded: least_work_within, table_within, shows_bound_within
+prices: corners, corner_certificate, shows_corners
+store: Store
+texts: show_schedule, read_schedule, show_store, read_store
+desk: Desk
+"""
 LETTERS = "abcdefghijklmnopqrstuvwxyz"
 UNKNOWN = "nowhere"
 
@@ -50,6 +70,16 @@ def few_loads():
             yield random_loads(rng, n, 4), random_loads(rng, n, 4)
     for n in (15, 30, 60):
         yield random_loads(rng, n, 5), random_loads(rng, n, 5)
+
+
+class InterfaceTest(unittest.TestCase):
+    def test_every_name_stands_in_its_module(self):
+        for line in INTERFACE.strip().split("\n"):
+            module, names = line.split(": ")
+            for name in names.split(", "):
+                found = vars(importlib.import_module(f"mergebudget.{module}"))[name]
+                self.assertTrue(callable(found))
+                self.assertEqual(found.__module__, f"mergebudget.{module}")
 
 
 class StoreWorkTest(unittest.TestCase):
